@@ -1,0 +1,132 @@
+"""Promise [1] and the words of the interface: names, arguments, kinds of values; nothing changes."""
+
+import copy
+import inspect
+import unittest
+
+from samples import BAD_FRAMINGS, ONE, WIDE
+from tornlines import errors, framings, weavings
+
+ERRORS = (errors.BadFraming, errors.BadWeaving, errors.OutOfPlace)
+WEAVING = ((0, 0), (1, 0), (0, 1), (1, 1), (3, 0))
+
+# The functions of the interface, each with the names of its arguments.
+FUNCTIONS = {
+    framings: {
+        "need_framing": ("thing",),
+        "is_piece": ("thing",),
+        "standings": ("framing",),
+        "way_to": ("framing", "standing"),
+        "line_from": ("framing", "standing"),
+        "line_text": ("framing", "line"),
+        "is_line": ("framing", "thing"),
+    },
+    weavings: {
+        "need_weaving": ("framing", "thing"),
+        "file_of": ("framing", "weaving"),
+        "read_lines": ("framing", "weaving"),
+        "rest_of": ("framing", "weaving"),
+        "is_whole_line": ("framing", "entries"),
+        "stands": ("framing", "weaving"),
+    },
+}
+
+# Calls with things that may be passed, each with what it returns.
+CALLS = (
+    (framings.need_framing, (ONE,), ONE),
+    (framings.is_piece, ("@a",), True),
+    (framings.is_piece, (["@a"],), False),
+    (framings.standings, (ONE,), (0, 1)),
+    (framings.way_to, (ONE, 1), (0,)),
+    (framings.line_from, (ONE, 0), (0, 1)),
+    (framings.line_text, (ONE, (0, 1)), "@a@b;"),
+    (framings.is_line, (ONE, (0, 1)), True),
+    (framings.is_line, (ONE, [0, 1]), False),
+    (weavings.need_weaving, (ONE, WEAVING), WEAVING),
+    (weavings.file_of, (ONE, WEAVING), "AaBaAb;Bb;Da"),
+    (weavings.read_lines, (ONE, WEAVING), (WEAVING[:3], WEAVING[3:4])),
+    (weavings.rest_of, (ONE, WEAVING), ((3, 0),)),
+    (weavings.is_whole_line, (ONE, WEAVING[:3]), False),
+    (weavings.is_whole_line, (ONE, ((2, 0), (2, 1))), True),
+    (weavings.stands, (ONE, WEAVING), (0, 0, 0, 1, 0, 0, 0, 0)),
+)
+
+# Calls that are refused.
+WRONG = (
+    (framings.need_framing, ([(0, "a;", 0)],)),
+    (framings.need_framing, (([0, "a;", 0],),)),
+    (framings.standings, ([[0]],)),
+    (framings.way_to, (ONE, [1])),
+    (framings.line_from, (ONE, {"a": [1]})),
+    (framings.line_text, (ONE, [0, 1])),
+    (framings.line_text, (ONE, (0, [1]))),
+    (weavings.need_weaving, (ONE, [(0, 0)])),
+    (weavings.file_of, (ONE, ((0, 0), [0, 1]))),
+    (weavings.read_lines, (ONE, ((0, 0), (0, [])))),
+    (weavings.rest_of, (ONE, {})),
+    (weavings.is_whole_line, (ONE, [(0, 0), (0, 1)])),
+    (weavings.stands, (ONE, ((0, 0), ([], 1)))),
+)
+
+
+class InterfaceTest(unittest.TestCase):
+    def test_names_and_arguments(self):
+        for module, functions in FUNCTIONS.items():
+            for name, arguments in functions.items():
+                function = getattr(module, name)
+                self.assertEqual(function.__module__, module.__name__)
+                self.assertEqual(tuple(inspect.signature(function).parameters), arguments, name)
+
+    def test_calls_stand_for_all_functions(self):
+        called = {function.__name__ for function, given, told in CALLS}
+        self.assertEqual(called, {name for functions in FUNCTIONS.values() for name in functions})
+
+    def test_by_position_and_by_name(self):
+        for function, given, told in CALLS:
+            named = dict(zip(inspect.signature(function).parameters, given))
+            turned = dict(reversed(list(named.items())))
+            for result in (function(*given), function(**named), function(**turned)):
+                self.assertEqual(result, told, function.__name__)
+                self.assertIs(type(result), type(told), function.__name__)
+
+
+class NothingChangesTest(unittest.TestCase):
+    def test_arguments_stay_and_equal_calls_return_the_same(self):
+        for function, given, told in CALLS:
+            before = copy.deepcopy(given)
+            first = function(*given)
+            self.assertEqual(given, before)
+            self.assertEqual(function(*before), first)
+            self.assertEqual(function(*given), first)
+
+    def test_refused_calls_change_nothing(self):
+        for function, given in WRONG:
+            before = copy.deepcopy(given)
+            told = []
+            for _ in range(2):
+                with self.assertRaises(ERRORS) as caught:
+                    function(*given)
+                told.append((type(caught.exception), vars(caught.exception)))
+            self.assertEqual(given, before)
+            self.assertEqual(told[0], told[1])
+        for function, given, told in CALLS:
+            self.assertEqual(function(*given), told)
+
+    def test_one_framing_leaves_no_trace_in_another(self):
+        before = [framings.line_from(ONE, 0), framings.way_to(WIDE, 5), weavings.file_of(ONE, WEAVING)]
+        for thing, number in BAD_FRAMINGS:
+            with self.assertRaises(errors.BadFraming):
+                framings.need_framing(thing)
+        after = [framings.line_from(ONE, 0), framings.way_to(WIDE, 5), weavings.file_of(ONE, WEAVING)]
+        self.assertEqual(before, after)
+
+    def test_a_changed_list_is_seen_anew(self):
+        line = [0, 1]
+        self.assertIs(framings.is_line(ONE, line), False)
+        self.assertIs(framings.is_line(ONE, tuple(line)), True)
+        line.append(0)
+        self.assertIs(framings.is_line(ONE, tuple(line)), False)
+
+
+if __name__ == "__main__":
+    unittest.main()

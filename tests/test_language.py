@@ -1,0 +1,92 @@
+"""Those rules for the code of the package that can be told from its files alone."""
+
+import ast
+import pathlib
+import re
+import unittest
+
+PACKAGE = pathlib.Path(__file__).resolve().parent.parent / "tornlines"
+BUILTINS = ("len range enumerate zip min max sum abs sorted reversed int str bool list tuple dict set isinstance ord"
+            " repr any all divmod iter next bytes ValueError KeyError IndexError LookupError ZeroDivisionError"
+            " OverflowError RuntimeError TypeError").split()
+BARRED_WORDS = ("type typing typing_extensions enum Enum IntEnum StrEnum Flag IntFlag Generic Protocol ABC ABCMeta"
+                " namedtuple NamedTuple TypedDict TYPE_CHECKING abstractmethod").split()
+BARRED_PARTS = ("dataclass", "overload", "contextmanager")
+
+
+def files():
+    return [path for path in sorted(PACKAGE.rglob("*")) if "__pycache__" not in path.parts]
+
+
+def bound_names(tree):
+    """All names that a file gives to something."""
+    for node in ast.walk(tree):
+        if isinstance(node, (ast.FunctionDef, ast.ClassDef)):
+            yield node.name
+        elif isinstance(node, ast.arg):
+            yield node.arg
+        elif isinstance(node, ast.Name) and isinstance(node.ctx, ast.Store):
+            yield node.id
+        elif isinstance(node, ast.alias):
+            yield node.asname or node.name
+
+
+class LanguageTest(unittest.TestCase):
+    def each(self):
+        for path in files():
+            text = path.read_text(encoding="utf-8")
+            yield path.name, text, ast.parse(text)
+
+    def test_files(self):
+        for path in files():
+            self.assertTrue(path.is_file() and re.fullmatch(r"[a-z][a-z0-9]*\.py|__init__\.py", path.name), path)
+
+    def test_size_and_characters(self):
+        for name, text, tree in self.each():
+            self.assertLessEqual(len(text.splitlines()), 399, name)
+            self.assertIsNone(re.search(r"[^ -~\n]", text), name)
+            self.assertLessEqual(max(map(len, text.splitlines())), 120, name)
+            for node in ast.walk(tree):
+                if isinstance(node, ast.FunctionDef):
+                    self.assertLessEqual(node.end_lineno - node.lineno + 1, 40, node.name)
+
+    def test_words(self):
+        for name, text, tree in self.each():
+            words = re.findall(r"\w+", text)
+            self.assertEqual([word for word in words if word in BARRED_WORDS], [], name)
+            self.assertEqual([part for part in BARRED_PARTS if part in text], [], name)
+            strings = [node.value for node in ast.walk(tree) if isinstance(node, ast.Constant)]
+            self.assertEqual([text for text in strings if isinstance(text, str) and "%" in text], [], name)
+
+    def test_names(self):
+        for name, text, tree in self.each():
+            for bound in bound_names(tree):
+                self.assertTrue(not bound.startswith("_") or bound == "__init__", (name, bound))
+                self.assertNotIn(bound, BUILTINS, name)
+
+    def test_module_level(self):
+        for name, text, tree in self.each():
+            self.assertIsNotNone(ast.get_docstring(tree), name)
+            for node in tree.body[1:]:
+                kinds = (ast.ImportFrom, ast.FunctionDef, ast.ClassDef, ast.Assign)
+                self.assertIsInstance(node, kinds, (name, node.lineno))
+
+    def test_imports(self):
+        for name, text, tree in self.each():
+            for node in ast.walk(tree):
+                self.assertNotIsInstance(node, ast.Import, name)
+                if isinstance(node, ast.ImportFrom):
+                    self.assertEqual(node.module.split(".")[0], "tornlines", name)
+                    self.check_import(node)
+
+    def check_import(self, node):
+        """A name is imported from the very file that defines it."""
+        source = (PACKAGE / (node.module.split(".")[1] + ".py")).read_text(encoding="utf-8")
+        own = [part.name for part in ast.parse(source).body if isinstance(part, (ast.FunctionDef, ast.ClassDef))]
+        own += [target.id for part in ast.parse(source).body if isinstance(part, ast.Assign) for target in part.targets]
+        for alias in node.names:
+            self.assertIn(alias.name, own)
+
+
+if __name__ == "__main__":
+    unittest.main()

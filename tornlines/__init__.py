@@ -1,0 +1,1 @@
+"""Tornlines: lines of many writers in one file."""
