@@ -26,3 +26,13 @@ BAD_FRAMINGS = (
 
 # Nothing of these is a framing, a weaving, a standing, a line, an entry, a step or a piece.
 ODD = (None, True, False, -1, 8, 10 ** 999, "", "a;;", "A", b"a", [], [0], {}, {0: 1}, {1}, 1.5, object(), len)
+
+# Tuples that are no readers, each with the part and the number that tell why.
+BAD_READERS = (
+    ((), "form", None),
+    (((), (), ()), "form", None),
+    (((), [0]), "form", None),
+    (((), (200,)), "good", 0),
+    ((((0, "a", 200),), (0,)), "rules", 0),
+    ((((0, "a", 0), (0, "a", 1)), (0, 0)), "rules", 1),
+)

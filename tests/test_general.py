@@ -4,11 +4,15 @@ import copy
 import inspect
 import unittest
 
-from samples import BAD_FRAMINGS, ONE, WIDE
-from tornlines import errors, framings, weavings
+from samples import BAD_FRAMINGS, HALF, ONE, WIDE
+from tornlines import errors, framings, papers, passings, readers, weavings
 
-ERRORS = (errors.BadFraming, errors.BadWeaving, errors.OutOfPlace)
+ERRORS = (errors.BadFraming, errors.BadPaper, errors.BadReader, errors.BadWeaving, errors.OutOfPlace)
 WEAVING = ((0, 0), (1, 0), (0, 1), (1, 1), (3, 0))
+READER = (((0, "@", 1), (1, "a", 2), (2, "@", 3), (3, "b", 4)), (4,))
+HALF_READER = (((0, "@", 1), (1, "a", 2), (2, "b", 3)), (3,))
+PASSING = ((0, 1), ((0, 0), (1, 1)))
+PAPER = ((0, "plain", 0), (2, "marked", 1))
 
 # The functions of the interface, each with the names of its arguments.
 FUNCTIONS = {
@@ -29,6 +33,31 @@ FUNCTIONS = {
         "is_whole_line": ("framing", "entries"),
         "stands": ("framing", "weaving"),
     },
+    readers: {
+        "need_reader": ("thing",),
+        "takes": ("reader", "text"),
+        "strict": ("framing",),
+        "first_taken": ("reader",),
+        "parting": ("one", "other"),
+        "alike": ("one", "other"),
+    },
+    passings: {
+        "passing": ("framing", "reader", "writers"),
+        "is_safe": ("framing", "reader", "writers"),
+        "check_passing": ("framing", "reader", "writers", "paper"),
+        "fewest_writers": ("framing", "reader"),
+        "woven": ("framing", "paper"),
+    },
+    papers: {
+        "safety": ("framing", "reader"),
+        "check_safety": ("framing", "reader", "paper"),
+    },
+}
+
+# The arguments that may be left out, each with what is meant then.
+DEFAULTS = {
+    "passing": {"writers": None},
+    "is_safe": {"writers": None},
 }
 
 # Calls with things that may be passed, each with what it returns.
@@ -49,6 +78,26 @@ CALLS = (
     (weavings.is_whole_line, (ONE, WEAVING[:3]), False),
     (weavings.is_whole_line, (ONE, ((2, 0), (2, 1))), True),
     (weavings.stands, (ONE, WEAVING), (0, 0, 0, 1, 0, 0, 0, 0)),
+    (readers.need_reader, (READER,), READER),
+    (readers.need_reader, (((), ()),), ((), ())),
+    (readers.takes, (READER, "AaAb;"), True),
+    (readers.takes, (READER, "AaBb;"), False),
+    (readers.strict, (ONE,), READER),
+    (readers.first_taken, (READER,), "@a@b;"),
+    (readers.first_taken, (((), ()),), None),
+    (readers.parting, (READER, HALF_READER), "@ab;"),
+    (readers.parting, (READER, READER), None),
+    (readers.alike, (ONE, HALF), False),
+    (passings.passing, (HALF, HALF_READER, 2), PASSING),
+    (passings.passing, (ONE, READER, None), None),
+    (passings.is_safe, (HALF, HALF_READER, 2), False),
+    (passings.is_safe, (HALF, HALF_READER, 1), True),
+    (passings.check_passing, (HALF, HALF_READER, 2, PASSING), True),
+    (passings.fewest_writers, (HALF, HALF_READER), 2),
+    (passings.fewest_writers, (ONE, READER), None),
+    (passings.woven, (HALF, ((0, 0), ((0, 0), (1, 0), (0, 1)))), ((0, 0), (1, 0), (0, 1))),
+    (papers.safety, (ONE, READER), PAPER),
+    (papers.check_safety, (ONE, READER, PAPER), True),
 )
 
 # Calls that are refused.
@@ -66,6 +115,26 @@ WRONG = (
     (weavings.rest_of, (ONE, {})),
     (weavings.is_whole_line, (ONE, [(0, 0), (0, 1)])),
     (weavings.stands, (ONE, ((0, 0), ([], 1)))),
+    (readers.need_reader, ([[], []],)),
+    (readers.need_reader, ((([0, "a", 0],), ()),)),
+    (readers.takes, (READER, ["a", ";"])),
+    (readers.takes, ([], "a;")),
+    (readers.strict, ([[0]],)),
+    (readers.first_taken, (((), [0]),)),
+    (readers.parting, (READER, {})),
+    (readers.alike, (ONE, [[0]])),
+    (passings.passing, (HALF, HALF_READER, [2])),
+    (passings.is_safe, (HALF, [[], []], 2)),
+    (passings.check_passing, (HALF, HALF_READER, 2, [[0, 1], [(0, 0), (1, 1)]])),
+    (passings.check_passing, (HALF, HALF_READER, 2, (([0], 1), ((0, 0), (1, 1))))),
+    (passings.check_passing, (HALF, HALF_READER, 2, ((0, 1), ((0, 0), [1, 1])))),
+    (passings.fewest_writers, (HALF, [])),
+    (passings.woven, (HALF, ((0, 1), [(0, 0), (1, 1)]))),
+    (passings.woven, (HALF, (([], 1), ((0, 0), (1, 1))))),
+    (papers.safety, (HALF, HALF_READER)),
+    (papers.safety, (ONE, [[], []])),
+    (papers.check_safety, (ONE, READER, list(PAPER))),
+    (papers.check_safety, (ONE, READER, ([0, "plain", 0],))),
 )
 
 
@@ -75,7 +144,10 @@ class InterfaceTest(unittest.TestCase):
             for name, arguments in functions.items():
                 function = getattr(module, name)
                 self.assertEqual(function.__module__, module.__name__)
-                self.assertEqual(tuple(inspect.signature(function).parameters), arguments, name)
+                parameters = inspect.signature(function).parameters
+                self.assertEqual(tuple(parameters), arguments, name)
+                defaults = {key: told.default for key, told in parameters.items() if told.default is not told.empty}
+                self.assertEqual(defaults, DEFAULTS.get(name, {}), name)
 
     def test_calls_stand_for_all_functions(self):
         called = {function.__name__ for function, given, told in CALLS}
@@ -113,11 +185,13 @@ class NothingChangesTest(unittest.TestCase):
             self.assertEqual(function(*given), told)
 
     def test_one_framing_leaves_no_trace_in_another(self):
-        before = [framings.line_from(ONE, 0), framings.way_to(WIDE, 5), weavings.file_of(ONE, WEAVING)]
+        before = [framings.line_from(ONE, 0), framings.way_to(WIDE, 5), weavings.file_of(ONE, WEAVING),
+                  readers.strict(ONE), passings.passing(WIDE, readers.strict(WIDE))]
         for thing, number in BAD_FRAMINGS:
             with self.assertRaises(errors.BadFraming):
                 framings.need_framing(thing)
-        after = [framings.line_from(ONE, 0), framings.way_to(WIDE, 5), weavings.file_of(ONE, WEAVING)]
+        after = [framings.line_from(ONE, 0), framings.way_to(WIDE, 5), weavings.file_of(ONE, WEAVING),
+                 readers.strict(ONE), passings.passing(WIDE, readers.strict(WIDE))]
         self.assertEqual(before, after)
 
     def test_a_changed_list_is_seen_anew(self):

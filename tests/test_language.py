@@ -11,6 +11,11 @@ BUILTINS = ("len range enumerate zip min max sum abs sorted reversed int str boo
             " OverflowError RuntimeError TypeError").split()
 BARRED_WORDS = ("type typing typing_extensions enum Enum IntEnum StrEnum Flag IntFlag Generic Protocol ABC ABCMeta"
                 " namedtuple NamedTuple TypedDict TYPE_CHECKING abstractmethod").split()
+# Methods of builtin values that the package may call; those of its own classes come with later files.
+METHODS = ("append clear copy count endswith extend find get index insert isalnum isalpha isdigit islower isspace"
+           " isupper items join keys ljust lower lstrip partition pop remove replace reverse rfind rjust rpartition"
+           " rsplit rstrip setdefault split splitlines startswith strip update upper values zfill bit_length"
+           " removeprefix removesuffix isascii").split()
 BARRED_PARTS = ("dataclass", "overload", "contextmanager")
 
 
@@ -63,6 +68,42 @@ class LanguageTest(unittest.TestCase):
             for bound in bound_names(tree):
                 self.assertTrue(not bound.startswith("_") or bound == "__init__", (name, bound))
                 self.assertNotIn(bound, BUILTINS, name)
+
+    def test_methods(self):
+        for name, text, tree in self.each():
+            for node in ast.walk(tree):
+                if isinstance(node, ast.Call) and isinstance(node.func, ast.Attribute):
+                    self.assertTrue(node.func.attr in METHODS + ["__init__"], (name, node.lineno, node.func.attr))
+                    self.assertEqual(node.keywords, [], (name, node.lineno))
+
+    def test_what_is_not_used(self):
+        barred = (ast.GeneratorExp, ast.Lambda, ast.Global, ast.AsyncFunctionDef, ast.Starred, ast.Div, ast.Pow,
+                  ast.AnnAssign)
+        for name, text, tree in self.each():
+            for node in ast.walk(tree):
+                self.assertNotIsInstance(node, barred, (name, getattr(node, "lineno", None)))
+                if isinstance(node, ast.Constant):
+                    self.assertNotIsInstance(node.value, (float, complex), (name, node.lineno))
+                if isinstance(node, ast.FunctionDef):
+                    self.assertEqual(node.decorator_list, [], (name, node.name))
+
+    def test_plain_values_at_module_level(self):
+        for name, text, tree in self.each():
+            for node in tree.body:
+                if isinstance(node, ast.Assign):
+                    self.assertEqual(len(node.targets), 1, (name, node.lineno))
+                    ast.literal_eval(node.value)
+
+    def test_sets_are_not_iterated(self):
+        for name, text, tree in self.each():
+            for node in ast.walk(tree):
+                if isinstance(node, (ast.For, ast.comprehension)):
+                    self.assertNotIsInstance(node.iter, (ast.Set, ast.SetComp), name)
+                    called = node.iter.func.id if self.is_named_call(node.iter) else None
+                    self.assertNotIn(called, ("set", "frozenset"), name)
+
+    def is_named_call(self, node):
+        return isinstance(node, ast.Call) and isinstance(node.func, ast.Name)
 
     def test_module_level(self):
         for name, text, tree in self.each():

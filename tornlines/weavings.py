@@ -7,11 +7,11 @@ MARKS = "ABCDEFGH"
 MOST_ENTRIES = 200
 
 
-def is_entry(framing, thing):
-    """Whether this is an ENTRY by itself."""
+def is_entry(framing, thing, many):
+    """Whether this is an ENTRY by itself, its writer one of so many."""
     if not isinstance(thing, tuple) or len(thing) != 2:
         return False
-    return is_number(thing[0], len(MARKS)) and is_number(thing[1], len(framing))
+    return is_number(thing[0], many) and is_number(thing[1], len(framing))
 
 
 def first_wrong(framing, things, begin):
@@ -21,7 +21,7 @@ def first_wrong(framing, things, begin):
     """
     places = [begin for mark in MARKS]
     for number, thing in enumerate(things):
-        if not is_entry(framing, thing):
+        if not is_entry(framing, thing, len(MARKS)):
             return number
         writer, step = thing
         start, piece, goal = framing[step]
