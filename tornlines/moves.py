@@ -12,12 +12,12 @@ MIXED_KINDS = ("free", "owned")
 
 
 def piece_leads(framing, reader):
-    """For each STEP the STATES from which its PIECE, without `;`, leads to a STATE, each with that."""
+    """For each STEP the STATE to which its PIECE, without `;`, leads from each STATE, or None."""
     rows = rows_of(reader)
     leads = []
     for start, piece, goal in framing:
-        pairs = [(state, led(rows, state, piece.removesuffix(";"))) for state in range(MOST_STATES)]
-        leads.append({state: behind for state, behind in pairs if behind is not None})
+        signs = piece.removesuffix(";")
+        leads.append([led(rows, state, signs) for state in range(MOST_STATES)])
     return leads
 
 
@@ -53,7 +53,7 @@ def moves_from(framing, leads, stand):
     """All moves from a STAND."""
     moves = []
     for number, step in enumerate(framing):
-        behind = leads[number].get(stand[0])
+        behind = leads[number][stand[0]]
         for told, can in ((True, may_be_told(stand, step[0])), (False, may_be_another(stand, step[0]))):
             kind = kind_behind(stand, told, step)
             if can and behind is not None and kind is not None:
