@@ -5,14 +5,16 @@ import inspect
 import unittest
 
 from samples import BAD_FRAMINGS, HALF, ONE, WIDE
-from tornlines import errors, framings, papers, passings, readers, weavings
+from tornlines import errors, framings, marks, papers, passings, readers, scores, verdicts, weavings
 
-ERRORS = (errors.BadFraming, errors.BadPaper, errors.BadReader, errors.BadWeaving, errors.OutOfPlace)
+ERRORS = (errors.BadFraming, errors.BadPaper, errors.BadReader, errors.BadWeaving, errors.OutOfPlace, errors.TooGreat)
 WEAVING = ((0, 0), (1, 0), (0, 1), (1, 1), (3, 0))
 READER = (((0, "@", 1), (1, "a", 2), (2, "@", 3), (3, "b", 4)), (4,))
 HALF_READER = (((0, "@", 1), (1, "a", 2), (2, "b", 3)), (3,))
 PASSING = ((0, 1), ((0, 0), (1, 1)))
 PAPER = ((0, "plain", 0), (2, "marked", 1))
+SCORE = (((0, 1),), ((0, 1),))
+SCORED = ((0, 0), (1, 0), (0, 1), (1, 1))
 
 # The functions of the interface, each with the names of its arguments.
 FUNCTIONS = {
@@ -52,12 +54,34 @@ FUNCTIONS = {
         "safety": ("framing", "reader"),
         "check_safety": ("framing", "reader", "paper"),
     },
+    marks: {
+        "marked": ("framing", "steps"),
+        "is_guard": ("framing", "steps", "writers"),
+        "fewest_marks": ("framing", "writers"),
+        "wary": ("framing",),
+        "lost_text": ("framing",),
+    },
+    verdicts: {
+        "possible": ("framing", "text", "writers"),
+        "verdicts": ("framing", "text", "writers"),
+        "explained": ("framing", "text", "writers"),
+    },
+    scores: {
+        "need_score": ("framing", "thing"),
+        "count": ("framing", "score"),
+        "count_clean": ("framing", "score"),
+        "weaving_at": ("framing", "score", "number"),
+        "weaving_number": ("framing", "score", "weaving"),
+        "is_clean": ("framing", "weaving"),
+    },
 }
 
 # The arguments that may be left out, each with what is meant then.
 DEFAULTS = {
     "passing": {"writers": None},
     "is_safe": {"writers": None},
+    "is_guard": {"writers": None},
+    "fewest_marks": {"writers": None},
 }
 
 # Calls with things that may be passed, each with what it returns.
@@ -98,6 +122,22 @@ CALLS = (
     (passings.woven, (HALF, ((0, 0), ((0, 0), (1, 0), (0, 1)))), ((0, 0), (1, 0), (0, 1))),
     (papers.safety, (ONE, READER), PAPER),
     (papers.check_safety, (ONE, READER, PAPER), True),
+    (marks.marked, (HALF, (1,)), ONE),
+    (marks.is_guard, (HALF, (1,), 5), True),
+    (marks.is_guard, (HALF, (), None), False),
+    (marks.fewest_marks, (HALF, None), (1,)),
+    (marks.wary, (ONE,), READER),
+    (marks.lost_text, (HALF,), "@ab;"),
+    (verdicts.possible, (HALF, "Aab;", 2), True),
+    (verdicts.verdicts, (HALF, "BaAab;Aab;b;", 2), ("mixed", "open", "mixed")),
+    (verdicts.explained, (HALF, "Aab;", 2), ((0, 0), (0, 1))),
+    (verdicts.explained, (HALF, "b;", 2), None),
+    (scores.need_score, (ONE, SCORE), SCORE),
+    (scores.count, (ONE, SCORE), 6),
+    (scores.count_clean, (ONE, SCORE), 2),
+    (scores.weaving_at, (ONE, SCORE, 1), SCORED),
+    (scores.weaving_number, (ONE, SCORE, SCORED), 1),
+    (scores.is_clean, (ONE, SCORED), False),
 )
 
 # Calls that are refused.
@@ -135,6 +175,23 @@ WRONG = (
     (papers.safety, (ONE, [[], []])),
     (papers.check_safety, (ONE, READER, list(PAPER))),
     (papers.check_safety, (ONE, READER, ([0, "plain", 0],))),
+    (marks.marked, (HALF, [1])),
+    (marks.is_guard, (HALF, ([1],))),
+    (marks.is_guard, (HALF, (1,), [2])),
+    (marks.fewest_marks, (HALF, {})),
+    (marks.wary, ([list(step) for step in HALF],)),
+    (marks.wary, (WIDE,)),
+    (marks.lost_text, ([],)),
+    (verdicts.possible, (HALF, ["A", "a"], 2)),
+    (verdicts.verdicts, (HALF, "b;", 2)),
+    (verdicts.explained, (HALF, "Aab;", [2])),
+    (scores.need_score, (ONE, [[(0, 1)]])),
+    (scores.count, (ONE, (([0, 1],),))),
+    (scores.count_clean, (ONE, ([(0, 1)],))),
+    (scores.weaving_at, (ONE, SCORE, [1])),
+    (scores.weaving_number, (ONE, SCORE, [(0, 0)])),
+    (scores.weaving_number, (ONE, SCORE, ((0, 0), [0, 1]))),
+    (scores.is_clean, (ONE, [])),
 )
 
 

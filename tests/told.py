@@ -220,3 +220,44 @@ def least_paper(framing, reader):
                 return None
             listed += further
     return tuple(sorted(found))
+
+
+def line_texts(framing, size, begin=0):
+    """The texts of at most so many signs that lead from a standing to the end of a line."""
+    found = set()
+    listed = [("", begin)]
+    while listed:
+        text, standing = listed.pop()
+        for start, piece, goal in framing:
+            if start == standing and len(text) + len(piece) <= size:
+                if goal == 0:
+                    found.add(text + piece)
+                else:
+                    listed.append((text + piece, goal))
+    return found
+
+
+def mixed_texts(framing, size):
+    """The texts, of at most so many signs, of mixed lines with marks of one writer at most."""
+    found = set()
+    known = set()
+    listed = [("", (), (), None)]
+    while listed:
+        row = listed.pop()
+        if row in known:
+            continue
+        known.add(row)
+        text, begins, places, marker = row
+        for start, piece, goal in framing:
+            for writer in range(len(places) + 1):
+                if len(text) + len(piece) > size or ("@" in piece and marker not in (None, writer)):
+                    continue
+                if writer < len(places) and places[writer] != start:
+                    continue
+                now = begins if writer < len(places) else begins + (start,)
+                further = places[:writer] + (goal,) + places[writer + 1:]
+                if goal != 0:
+                    listed.append((text + piece, now, further, writer if "@" in piece else marker))
+                elif now != (0,):
+                    found.add(text + piece)
+    return found
