@@ -4,10 +4,12 @@ import copy
 import inspect
 import unittest
 
-from samples import BAD_FRAMINGS, HALF, ONE, WIDE
-from tornlines import errors, framings, marks, papers, passings, readers, scores, verdicts, weavings
+from samples import BAD_FRAMINGS, HALF, ODD, ONE, TWO, WIDE
+from tornlines import desk, errors, framings, live, marks, papers, passings, readers, scores, texts, turns, verdicts
+from tornlines import weavings
 
-ERRORS = (errors.BadFraming, errors.BadPaper, errors.BadReader, errors.BadWeaving, errors.OutOfPlace, errors.TooGreat)
+ERRORS = (errors.BadFraming, errors.BadPaper, errors.BadReader, errors.BadText, errors.BadWeaving, errors.OutOfPlace,
+          errors.TooGreat)
 WEAVING = ((0, 0), (1, 0), (0, 1), (1, 1), (3, 0))
 READER = (((0, "@", 1), (1, "a", 2), (2, "@", 3), (3, "b", 4)), (4,))
 HALF_READER = (((0, "@", 1), (1, "a", 2), (2, "b", 3)), (3,))
@@ -15,6 +17,7 @@ PASSING = ((0, 1), ((0, 0), (1, 1)))
 PAPER = ((0, "plain", 0), (2, "marked", 1))
 SCORE = (((0, 1),), ((0, 1),))
 SCORED = ((0, 0), (1, 0), (0, 1), (1, 1))
+TURNED = ((0, 0), "turn", (0, 1))
 
 # The functions of the interface, each with the names of its arguments.
 FUNCTIONS = {
@@ -74,6 +77,28 @@ FUNCTIONS = {
         "weaving_number": ("framing", "score", "weaving"),
         "is_clean": ("framing", "weaving"),
     },
+    turns: {
+        "need_turned": ("framing", "thing"),
+        "files": ("framing", "thing", "manner"),
+        "fates": ("framing", "thing", "manner"),
+    },
+    texts: {
+        "framing_text": ("framing",),
+        "read_framing": ("text",),
+    },
+}
+
+# The functions and methods of the interface whose calls change something, each with the names of its arguments.
+DEEDS = {
+    live.under: ("manager", "deed"),
+    live.held: ("shared", "writer", "line"),
+    live.Shared.write: ("self", "writer", "step"),
+    live.Shared.hold: ("self", "writer"),
+    live.Shared.good: ("self",),
+    live.Shared.passed: ("self",),
+    live.Shared.back: ("self", "many"),
+    live.Shared.copy: ("self",),
+    desk.Desk.say: ("self", "line"),
 }
 
 # The arguments that may be left out, each with what is meant then.
@@ -138,6 +163,13 @@ CALLS = (
     (scores.weaving_at, (ONE, SCORE, 1), SCORED),
     (scores.weaving_number, (ONE, SCORE, SCORED), 1),
     (scores.is_clean, (ONE, SCORED), False),
+    (turns.need_turned, (HALF, TURNED), TURNED),
+    (turns.files, (HALF, TURNED, "piece"), ("Aa", "b;")),
+    (turns.files, (HALF, TURNED, "line"), ("Aab;", "")),
+    (turns.fates, (HALF, TURNED, "piece"), ("torn",)),
+    (turns.fates, (HALF, TURNED, "line"), ("kept",)),
+    (texts.framing_text, (ONE,), "0 @a 1\n1 @b; 0"),
+    (texts.read_framing, ("0 @a 1\n1 @b; 0",), ONE),
 )
 
 # Calls that are refused.
@@ -192,6 +224,15 @@ WRONG = (
     (scores.weaving_number, (ONE, SCORE, [(0, 0)])),
     (scores.weaving_number, (ONE, SCORE, ((0, 0), [0, 1]))),
     (scores.is_clean, (ONE, [])),
+    (turns.need_turned, (HALF, list(TURNED))),
+    (turns.need_turned, (HALF, ([0, 0], "turn"))),
+    (turns.files, (HALF, TURNED, ["line"])),
+    (turns.files, (HALF, {}, "line")),
+    (turns.fates, (HALF, TURNED, None)),
+    (turns.fates, (HALF, ((0, 0), ["turn"]), "line")),
+    (texts.framing_text, ([list(step) for step in HALF],)),
+    (texts.read_framing, (["0 a; 0"],)),
+    (texts.read_framing, ("0 a 1",)),
 )
 
 
@@ -209,6 +250,26 @@ class InterfaceTest(unittest.TestCase):
     def test_calls_stand_for_all_functions(self):
         called = {function.__name__ for function, given, told in CALLS}
         self.assertEqual(called, {name for functions in FUNCTIONS.values() for name in functions})
+
+    def test_names_and_arguments_of_deeds(self):
+        for function, arguments in DEEDS.items():
+            self.assertEqual(tuple(inspect.signature(function).parameters), arguments, function)
+
+    def test_no_framing_is_refused_ahead_of_all_else(self):
+        for module, functions in FUNCTIONS.items():
+            for name, arguments in functions.items():
+                if arguments[0] == "framing" or name == "alike":
+                    for thing, number in BAD_FRAMINGS + tuple((thing, None) for thing in ODD):
+                        self.check_refused(getattr(module, name), thing, arguments, number)
+        self.assertRaises(errors.BadFraming, readers.alike, ONE, TWO[:1])
+        for thing, number in BAD_FRAMINGS:
+            self.check_refused(live.Shared, thing, ("framing", "writers"), number)
+
+    def check_refused(self, function, thing, arguments, number):
+        for wrong in (None, 0, object()):
+            with self.assertRaises(errors.BadFraming, msg=function) as caught:
+                function(thing, *(wrong for argument in arguments[1:]))
+            self.assertEqual(caught.exception.number, number)
 
     def test_by_position_and_by_name(self):
         for function, given, told in CALLS:

@@ -17,10 +17,22 @@ METHODS = ("append clear copy count endswith extend find get index insert isalnu
            " rsplit rstrip setdefault split splitlines startswith strip update upper values zfill bit_length"
            " removeprefix removesuffix isascii").split()
 BARRED_PARTS = ("dataclass", "overload", "contextmanager")
+OWN_METHODS = ("__init__ __call__ __enter__ __exit__ __len__ __getitem__ __iter__ __contains__ __eq__").split()
 
 
 def files():
     return [path for path in sorted(PACKAGE.rglob("*")) if "__pycache__" not in path.parts]
+
+
+def nodes_of(kind):
+    """All nodes of a kind in the package."""
+    trees = [ast.parse(path.read_text(encoding="utf-8")) for path in files()]
+    return [node for tree in trees for node in ast.walk(tree) if isinstance(node, kind)]
+
+
+def class_methods():
+    """The names of all methods and properties in the package."""
+    return {part.name for node in nodes_of(ast.ClassDef) for part in node.body if isinstance(part, ast.FunctionDef)}
 
 
 def bound_names(tree):
@@ -66,14 +78,15 @@ class LanguageTest(unittest.TestCase):
     def test_names(self):
         for name, text, tree in self.each():
             for bound in bound_names(tree):
-                self.assertTrue(not bound.startswith("_") or bound == "__init__", (name, bound))
+                self.assertTrue(not bound.startswith("_") or bound in OWN_METHODS, (name, bound))
                 self.assertNotIn(bound, BUILTINS, name)
 
     def test_methods(self):
+        known = set(METHODS) | class_methods()
         for name, text, tree in self.each():
             for node in ast.walk(tree):
                 if isinstance(node, ast.Call) and isinstance(node.func, ast.Attribute):
-                    self.assertTrue(node.func.attr in METHODS + ["__init__"], (name, node.lineno, node.func.attr))
+                    self.assertIn(node.func.attr, known, (name, node.lineno))
                     self.assertEqual(node.keywords, [], (name, node.lineno))
 
     def test_what_is_not_used(self):
@@ -85,14 +98,52 @@ class LanguageTest(unittest.TestCase):
                 if isinstance(node, ast.Constant):
                     self.assertNotIsInstance(node.value, (float, complex), (name, node.lineno))
                 if isinstance(node, ast.FunctionDef):
-                    self.assertEqual(node.decorator_list, [], (name, node.name))
+                    decorators = [ast.unparse(part) for part in node.decorator_list]
+                    self.assertIn(decorators, ([], ["property"]), (name, node.name))
 
     def test_plain_values_at_module_level(self):
         for name, text, tree in self.each():
             for node in tree.body:
                 if isinstance(node, ast.Assign):
                     self.assertEqual(len(node.targets), 1, (name, node.lineno))
-                    ast.literal_eval(node.value)
+                    self.check_plain(node.value, tree)
+
+    def check_plain(self, value, tree):
+        """A plain value; one in a dict may be a function that is defined above."""
+        if not isinstance(value, ast.Dict):
+            ast.literal_eval(value)
+            return
+        above = [node.name for node in tree.body if isinstance(node, ast.FunctionDef) and node.lineno < value.lineno]
+        for part in value.keys + value.values:
+            if isinstance(part, ast.Name):
+                self.assertIn(part.id, above)
+            else:
+                ast.literal_eval(part)
+
+    def test_methods_are_no_attributes(self):
+        stored = {node.attr for node in nodes_of(ast.Attribute) if isinstance(node.ctx, ast.Store)}
+        self.assertEqual(stored & class_methods(), set())
+        read = {node.attr for node in nodes_of(ast.Attribute) if isinstance(node.ctx, ast.Load)}
+        self.assertEqual(read - stored - class_methods() - set(METHODS), set())
+
+    def test_where_classes_compare(self):
+        # Then nothing is sorted in place, and no error of Python's own is caught.
+        self.assertEqual([node.lineno for node in nodes_of(ast.Attribute) if node.attr == "sort"], [])
+        own = {node.name for node in nodes_of(ast.ClassDef)}
+        for node in nodes_of(ast.ExceptHandler):
+            caught = node.type.elts if isinstance(node.type, ast.Tuple) else [node.type]
+            self.assertLessEqual({part.id for part in caught}, own)
+
+    def test_imports_go_one_way(self):
+        told = {}
+        for path in files():
+            tree = ast.parse(path.read_text(encoding="utf-8"))
+            told[path.stem] = {node.module.split(".")[1] for node in tree.body if isinstance(node, ast.ImportFrom)}
+        while told:
+            free = [name for name in told if not told[name] & set(told)]
+            self.assertNotEqual(free, [])
+            for name in free:
+                del told[name]
 
     def test_sets_are_not_iterated(self):
         for name, text, tree in self.each():

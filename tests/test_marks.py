@@ -339,6 +339,30 @@ class WaryTest(unittest.TestCase):
                 function(WHEELS)
             self.assertEqual(caught.exception.most, 200)
 
+    def test_as_many_states_as_can_be(self):
+        # Wheels of 18 and 11 signs: 198 states, and others for what ahead of the last "a" begins a line.
+        for begin, many in (("aa@", 200), ("aaa@", 201)):
+            framing = ((0, begin, 1), (0, begin, 4), (1, "@;", 0), (1, "@@@@@@@@", 2), (2, "@@@@@@@@", 3),
+                       (3, "@@", 1), (4, "@;", 0), (4, "@@@@@@@@", 5), (5, "@@@", 4))
+            if many == 200:
+                reader = wary(framing)
+                self.assertEqual(len({state for rule in reader[0] for state in rule[::2]}), 200)
+                self.assertEqual(reader, strict(framing))
+                self.assertIsNone(lost_text(framing))
+                self.assertIs(is_guard(framing, ()), True)
+            else:
+                for function in (wary, lost_text, strict, fewest_marks):
+                    self.assertRaises(TooGreat, function, framing)
+
+    def test_very_many_states_are_told_soon(self):
+        # Each "@b" is one of very many behind which there may be three pieces and more to the end.
+        framing = ((0, "a@", 1), (1, "@a", 1), (1, "@b", 1), (1, "@b", 2), (2, "@a@a@a@", 3), (2, "@a@b@a@", 3),
+                   (2, "@b@a@b@", 3), (3, "@a@a@a@;", 0), (3, "@b@b@a@", 4), (4, "@;", 0))
+        begun = time.process_time()
+        reader = wary(framing)
+        self.assertLess(time.process_time() - begun, 20)
+        self.assertIs(is_safe(framing, reader), True)
+
     def test_strict_may_be_greater(self):
         # Without marks nothing is taken, however many states the strict reader has.
         bare = tuple((start, piece.replace("@", "c"), goal) for start, piece, goal in WHEELS)

@@ -186,10 +186,11 @@ def leading(rows, good):
     found = list(good)
     listed = [state for state, flag in enumerate(good) if flag]
     while listed:
-        for state in ahead[listed.pop()]:
-            if not found[state]:
-                found[state] = True
-                listed.append(state)
+        state = listed.pop()
+        for before in ahead[state]:
+            if not found[before]:
+                found[before] = True
+                listed.append(before)
     return found
 
 
